@@ -1,0 +1,1 @@
+"""Recut: one cloth cut straight and laid anew as another."""
