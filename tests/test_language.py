@@ -1,4 +1,4 @@
-"""The package's files against the rules of LANGUAGE.md that can be read off a file."""
+"""The package's files against some of the rules of LANGUAGE.md; the others are for a reader to check."""
 
 import ast
 import builtins
