@@ -49,3 +49,16 @@ def below(one, other):
 
 def floor_of(one):
     return one[0] // one[1]
+
+
+def lowest_multiple(numbers):
+    multiple = 1
+    for number in numbers:
+        multiple = shared_multiple(multiple, number)
+    return multiple
+
+
+# Tuples are not ordered as fractions are, so the tops are compared over one bottom.
+def rising(ones):
+    bottom = lowest_multiple([one[1] for one in ones])
+    return sorted(ones, key=lambda one: one[0] * (bottom // one[1]))

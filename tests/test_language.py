@@ -31,6 +31,13 @@ WORDS = re.compile(
     r"|dataclass|overload|contextmanager"
 )
 
+KEYWORDS = {
+    "sorted": {"key", "reverse"}, "min": {"key", "default"}, "max": {"key", "default"}, "sum": {"start"},
+    "enumerate": {"start"}, "zip": {"strict"},
+}
+WALKED = ("zip", "enumerate", "reversed", "range", "items", "keys", "values")
+WALKERS = ("list", "tuple", "dict", "sorted", "sum", "any", "all", "enumerate", "zip", "min", "max")
+
 
 def files():
     return sorted(name for name in os.listdir(PACKAGE) if name != "__pycache__")
@@ -53,6 +60,19 @@ def bound_names(tree):
         elif isinstance(node, ast.Name) and isinstance(node.ctx, ast.Store):
             names.add(node.id)
     return names
+
+
+def top_names(node):
+    """The names that a statement of a file's top binds."""
+    if isinstance(node, (ast.FunctionDef, ast.ClassDef)):
+        return [node.name]
+    if isinstance(node, ast.ImportFrom):
+        return [one.asname or one.name for one in node.names]
+    return sorted(bound_names(node))
+
+
+def called_name(node):
+    return node.func.id if isinstance(node.func, ast.Name) else getattr(node.func, "attr", None)
 
 
 def each():
@@ -127,6 +147,90 @@ class LanguageTest(unittest.TestCase):
             for node in ast.walk(tree):
                 if isinstance(node, ast.Call) and isinstance(node.func, ast.Attribute):
                     self.assertIn(node.func.attr, METHODS, name)
+
+    def test_plain_parameters(self):
+        for name, text, tree in each():
+            for node in ast.walk(tree):
+                if isinstance(node, (ast.FunctionDef, ast.ClassDef)):
+                    self.assertEqual(node.decorator_list, [], name)
+                if isinstance(node, ast.arguments):
+                    self.assertIsNone(node.vararg)
+                    self.assertIsNone(node.kwarg)
+                    self.assertEqual(node.posonlyargs + node.kwonlyargs, [])
+                    for default in node.defaults:
+                        self.assertIsInstance(default, ast.Constant)
+
+    def test_each_name_of_a_files_top_once_and_no_local_like_it(self):
+        for name, text, tree in each():
+            top = [one for node in tree.body for one in top_names(node)]
+            self.assertEqual(len(set(top)), len(top), name)
+            for node in tree.body:
+                if isinstance(node, ast.FunctionDef):
+                    inner = ast.Module(body=[node.args] + node.body, type_ignores=[])
+                    self.assertEqual(bound_names(inner) & set(top), set(), (name, node.name))
+
+    def test_no_two_files_draw_from_one_another(self):
+        drawn = {}
+        for name, text, tree in each():
+            froms = [node.module for node in ast.walk(tree) if isinstance(node, ast.ImportFrom)]
+            drawn[name[:-3]] = set(module.split(".")[1] for module in froms)
+        while drawn:
+            free = [name for name in drawn if not drawn[name]]
+            self.assertNotEqual(free, [], drawn)
+            drawn = {name: drawn[name] - set(free) for name in drawn if name not in free}
+
+    def test_is_and_raise(self):
+        for name, text, tree in each():
+            for node in ast.walk(tree):
+                if isinstance(node, ast.Compare):
+                    for sign, other in zip(node.ops, node.comparators):
+                        if isinstance(sign, (ast.Is, ast.IsNot)):
+                            self.assertIsInstance(other, ast.Constant)
+                            self.assertIn(str(other.value), ("None", "True", "False"))
+                if isinstance(node, ast.Raise):
+                    self.assertIsInstance(node.exc, ast.Call)
+
+    def test_pythons_own_are_called_with_few_keywords(self):
+        for name, text, tree in each():
+            called = {id(node.func) for node in ast.walk(tree) if isinstance(node, ast.Call)}
+            for node in ast.walk(tree):
+                if isinstance(node, ast.Call) and isinstance(node.func, ast.Name):
+                    words = set(keyword.arg for keyword in node.keywords)
+                    if node.func.id in OWN_NAMES:
+                        self.assertEqual(words - KEYWORDS.get(node.func.id, set()), set(), name)
+                elif isinstance(node, ast.Call):
+                    self.assertEqual(node.keywords, [], name)
+                if isinstance(node, ast.Name) and node.id in dir(builtins) and node.id[0].islower():
+                    self.assertIn(id(node), called, (name, node.id))
+
+    def test_walked_at_once(self):
+        for name, text, tree in each():
+            walked = set()
+            for node in ast.walk(tree):
+                if isinstance(node, (ast.For, ast.comprehension)):
+                    walked.add(id(node.iter))
+                if isinstance(node, ast.Call) and isinstance(node.func, ast.Name) and node.func.id in WALKERS:
+                    walked.update(id(one) for one in node.args[:1])
+            for node in ast.walk(tree):
+                if isinstance(node, ast.Call) and called_name(node) in WALKED:
+                    self.assertIn(id(node), walked, (name, node.lineno))
+
+    def test_sets(self):
+        for name, text, tree in each():
+            held = set()
+            for node in ast.walk(tree):
+                if isinstance(node, ast.Call) and called_name(node) in ("sorted", "len") and not node.keywords:
+                    held.update(id(one) for one in ast.walk(node.args[0]))
+            for node in ast.walk(tree):
+                if isinstance(node, ast.Call) and called_name(node) in ("set", "frozenset"):
+                    self.assertIn(id(node), held, (name, node.lineno))
+
+    def test_powers_and_texts(self):
+        for name, text, tree in each():
+            for node in ast.walk(tree):
+                self.assertNotIsInstance(node, ast.Pow, name)
+                if isinstance(node, ast.Constant) and isinstance(node.value, str):
+                    self.assertNotIn("%", node.value)
 
 
 if __name__ == "__main__":

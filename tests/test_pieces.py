@@ -1,11 +1,9 @@
 import unittest
 from fractions import Fraction
-from math import gcd
 
 from recut.moves import led, way_back
 from recut.pieces import common, cut, doubled, lies, piece_of, pushed
-
-BIG = 10 ** 60 + 7
+from support import BIG, Case, corner_values, doubled_by_hand, left, sides, spot, spots_of, told, values
 
 SQUARE = (1, ((0, 0), (1, 0), (1, 1), (0, 1)))
 WIDE = (1, ((-2, -2), (3, -2), (3, 3), (-2, 3)))
@@ -16,39 +14,6 @@ FAR = (3, ((BIG, -BIG), (BIG + 4, -BIG), (BIG + 1, -BIG + 5)))
 FINE = (BIG, ((0, 0), (BIG - 1, 1), (2, BIG)))
 SMALL = [SQUARE, WIDE, TRIANGLE, THIRDS, KITE]
 ALL = SMALL + [FAR, FINE]
-
-
-def told(value):
-    value = Fraction(value)
-    return (value.numerator, value.denominator)
-
-
-def spot(x, y):
-    return (told(x), told(y))
-
-
-def values(one):
-    return (Fraction(*one[0]), Fraction(*one[1]))
-
-
-def corner_values(piece):
-    return [(Fraction(x, piece[0]), Fraction(y, piece[0])) for x, y in piece[1]]
-
-
-def spots_of(piece):
-    return [spot(x, y) for x, y in corner_values(piece)]
-
-
-def left(one, other, third):
-    return (other[0] - one[0]) * (third[1] - one[1]) - (other[1] - one[1]) * (third[0] - one[0])
-
-
-def sides(ring):
-    return list(zip(ring, ring[1:] + ring[:1]))
-
-
-def doubled_by_hand(ring):
-    return sum(one[0] * other[1] - one[1] * other[0] for one, other in sides(ring))
 
 
 def lies_by_hand(piece, one):
@@ -88,32 +53,7 @@ def grid(low, high, step):
 GRID = grid(Fraction(-5, 2), Fraction(7, 2), Fraction(1, 4))
 
 
-class PieceCase(unittest.TestCase):
-    def check_piece(self, piece):
-        """All of point 7."""
-        self.assertIs(type(piece), tuple)
-        share, corners = piece
-        self.assertIs(type(share), int)
-        self.assertGreaterEqual(share, 1)
-        self.assertIs(type(corners), tuple)
-        self.assertGreaterEqual(len(corners), 3)
-        for corner in corners:
-            self.assertIs(type(corner), tuple)
-            self.assertEqual([type(number) for number in corner], [int, int])
-        for one, other in sides(corners):
-            for third in corners:
-                if third not in (one, other):
-                    self.assertGreater(left(one, other, third), 0)
-        self.assertEqual(len(set(corners)), len(corners))
-        self.assertEqual(corners[0], min(corners))
-        self.assertEqual(gcd(share, *[number for corner in corners for number in corner]), 1)
-
-    def check_part(self, part):
-        if part is not None:
-            self.check_piece(part)
-
-
-class PieceOfTest(PieceCase):
+class PieceOfTest(Case):
     def ways_to_tell(self, ring):
         """The same ring of spots, told in many ways that point 8 allows."""
         middles = []
@@ -186,7 +126,7 @@ class PieceOfTest(PieceCase):
                 self.assertEqual(spots, kept)
 
 
-class DoubledTest(PieceCase):
+class DoubledTest(Case):
     def test_written_areas(self):
         self.assertEqual(doubled(SQUARE), (2, 1))
         self.assertEqual(doubled(TRIANGLE), (5, 1))
@@ -199,7 +139,7 @@ class DoubledTest(PieceCase):
             self.assertEqual(doubled(piece), told(doubled_by_hand(corner_values(piece))))
 
 
-class LiesTest(PieceCase):
+class LiesTest(Case):
     def check(self, piece, x, y, answer):
         place = lies(piece, spot(x, y))
         self.assertEqual(place, answer)
@@ -248,7 +188,7 @@ LINES = [
 ] + [(6, 0, 3), (0, -6, -4), (BIG, -BIG, 1), (1, BIG, BIG)]
 
 
-class CutTest(PieceCase):
+class CutTest(Case):
     def check_cut(self, piece, line):
         answer = cut(piece, line)
         self.assertIs(type(answer), tuple)
@@ -341,7 +281,7 @@ def placed(piece, x, y):
     return pushed(piece, (1, told(x), told(y)))
 
 
-class CommonTest(PieceCase):
+class CommonTest(Case):
     def check_common(self, one, other):
         part = common(one, other)
         self.assertEqual(common(other, one), part)
@@ -410,7 +350,7 @@ class CommonTest(PieceCase):
                     self.assertEqual(part is not None and lies(part, place) == 1, inside)
 
 
-class PushedTest(PieceCase):
+class PushedTest(Case):
     MOVES = [
         (1, (0, 1), (0, 1)), (1, (1, 2), (-2, 3)), (1, (-4, 1), (5, 1)), (1, (BIG, 7), (1, BIG)),
         (-1, (0, 1), (0, 1)), (-1, (1, 3), (1, 2)), (-1, (7, 1), (-1, 1)), (-1, (-BIG, 2), (BIG, 3)),
